@@ -134,6 +134,7 @@ func TestAnyBytes(t *testing.T) {
 	d := &dice{71}
 	first := map[string]string{}
 	ask := func(src string) string {
+		held(t, src, 200)
 		x, fault := Compile(src, 200)
 		if fault.E != api.OK && tell(x) != tell(api.Table{}) || fault.E == api.OK && !table.Right(x) {
 			t.Fatalf("T2: of %q: %v, %v", src, x, fault)
